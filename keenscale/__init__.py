@@ -1,1 +1,1 @@
-"""Keenscale: sayings of what is clearly better, told by spans, or by what forbids them."""
+"""Keenscale: sayings of what is clearly better, told by marks or by spans, or by what forbids them."""

@@ -36,18 +36,24 @@ def things_without_ends(table):
         left = kept
 
 
+def come_round(onward, thing):
+    walked = []
+    while thing not in walked:
+        walked.append(thing)
+        thing = onward[thing]
+    # What was walked ahead of the thing come back to only leads into the round.
+    return walked[walked.index(thing):]
+
+
 def round_in(table):
     left = things_without_ends(table)
     if not left:
         return None
     # Each thing left is better than another one left, so the walk never ends but by coming back.
-    walked = []
-    thing = left[0]
-    while thing not in walked:
-        walked.append(thing)
-        thing = beaten_by(table, thing, left)[0]
-    # What was walked ahead of the thing come back to only leads into the round.
-    return walked[walked.index(thing):]
+    onward = {}
+    for thing in left:
+        onward[thing] = beaten_by(table, thing, left)[0]
+    return come_round(onward, left[0])
 
 
 def round_of(many, pairs):

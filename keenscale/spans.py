@@ -38,12 +38,19 @@ def spans_in(table):
     return list(zip(lows, highs))
 
 
-def spans(many, pairs):
-    table = table_of(many, pairs)
+def what_forbids_spans(table):
     walked = round_in(table)
     if walked is not None:
         return ("round", walked)
     beside = two_pairs_in(table)
     if beside is not None:
         return ("pairs", beside)
+    return None
+
+
+def spans(many, pairs):
+    table = table_of(many, pairs)
+    forbidding = what_forbids_spans(table)
+    if forbidding is not None:
+        return forbidding
     return ("spans", spans_in(table))

@@ -26,6 +26,8 @@ METHODS = """
     items join keys ljust lower lstrip partition pop remove replace reverse rfind rjust rpartition rsplit rstrip
     setdefault split splitlines startswith strip update upper values zfill bit_length
 """.split()
+WALKED = ("zip", "enumerate", "reversed", "range", "items", "keys", "values")
+WALKERS = ("list", "tuple", "dict", "sorted", "sum", "any", "all", "enumerate", "zip", "min", "max", "join")
 WORDS = re.compile(
     r"\b(type|typing|typing_extensions|enum|Enum|IntEnum|StrEnum|Flag|IntFlag|Generic|Protocol|ABC|ABCMeta|namedtuple"
     r"|NamedTuple|TypedDict|TYPE_CHECKING|abstractmethod)\b|dataclass|overload|contextmanager"
@@ -40,6 +42,33 @@ def bound_names(tree):
 
 def drawn_from(tree):
     return [node.module for node in ast.walk(tree) if isinstance(node, ast.ImportFrom)]
+
+
+def called(node):
+    """The name by which a function or method is called, or None."""
+    if not isinstance(node, ast.Call):
+        return None
+    return node.func.attr if isinstance(node.func, ast.Attribute) else getattr(node.func, "id", None)
+
+
+def top_names(tree):
+    names = []
+    for node in tree.body:
+        if isinstance(node, (ast.FunctionDef, ast.ClassDef)):
+            names.append(node.name)
+        elif isinstance(node, ast.ImportFrom):
+            names += [part.asname or part.name for part in node.names]
+        elif isinstance(node, ast.Assign):
+            names.append(node.targets[0].id)
+    return names
+
+
+def names_within_defs(tree):
+    names = []
+    for node in ast.walk(tree):
+        if isinstance(node, ast.FunctionDef):
+            names += bound_names(node)
+    return names
 
 
 class Form(unittest.TestCase):
@@ -128,6 +157,48 @@ class Form(unittest.TestCase):
         for name, node in self.walk():
             if isinstance(node, ast.Call) and isinstance(node.func, ast.Attribute):
                 self.assertIn(node.func.attr, METHODS + own, (name, node.lineno))
+
+    def test_each_name_once(self):
+        for name, tree in self.trees.items():
+            tops = top_names(tree)
+            self.assertEqual(sorted(set(tops)), sorted(tops), name)
+            self.assertEqual(set(tops) & set(names_within_defs(tree)), set(), name)
+
+    def test_methods_and_values_are_apart(self):
+        methods, values = set(), set()
+        for name, node in self.walk():
+            if isinstance(node, ast.ClassDef):
+                own = [part.name for part in node.body if isinstance(part, ast.FunctionDef)]
+                self.assertEqual(len(set(own)), len(own), node.name)
+                methods.update(own)
+            if isinstance(node, ast.Attribute) and isinstance(node.ctx, ast.Store):
+                self.assertIsInstance(node.value, ast.Name, (name, node.lineno))
+                values.add(node.attr)
+        self.assertEqual(methods & values, set())
+        for kind in (str, int, list, dict, set, bytes, tuple):
+            self.assertEqual({found for found in methods | values if found[:2] != "__"} & set(dir(kind)), set())
+
+    def test_walked_at_once(self):
+        for name, tree in self.trees.items():
+            allowed = [node.iter for node in ast.walk(tree) if isinstance(node, (ast.For, ast.comprehension))]
+            for node in ast.walk(tree):
+                if called(node) in WALKERS:
+                    allowed += node.args
+            for node in ast.walk(tree):
+                if called(node) in WALKED:
+                    self.assertTrue(any(node is place for place in allowed), (name, node.lineno))
+
+    def test_sets_are_not_kept(self):
+        for name, tree in self.trees.items():
+            allowed = []
+            for node in ast.walk(tree):
+                if called(node) in ("sorted", "len"):
+                    allowed += node.args
+                elif isinstance(node, ast.Compare):
+                    allowed += [node.left] + node.comparators
+            for node in ast.walk(tree):
+                if called(node) in ("set", "frozenset"):
+                    self.assertTrue(any(node is place for place in allowed), (name, node.lineno))
 
 
 if __name__ == "__main__":

@@ -1,7 +1,9 @@
 import unittest
 
 from keenscale.sayings import alike, round_of
-from tests.helper import are_alike, drawn_sayings, every_saying, every_sayings, has_round, is_round, whole
+from tests.helper import (
+    are_alike, drawn_sayings, every_saying, every_sayings, falling, has_round, is_round, whole,
+)
 
 
 class Rounds(unittest.TestCase):
@@ -49,8 +51,7 @@ class Rounds(unittest.TestCase):
     def test_two_hundred_sayings(self):
         all_of_them = every_saying(12)
         self.look(12, all_of_them + all_of_them[:56])
-        falling = [(one, other) for one, other in all_of_them if one > other]
-        self.assertIsNone(round_of(12, (falling * 4)[:200]))
+        self.assertIsNone(round_of(12, (falling(12) * 4)[:200]))
 
     def test_the_last_of_two_hundred_counts_like_the_first(self):
         self.look(2, [(0, 1)] * 199 + [(1, 0)])

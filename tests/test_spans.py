@@ -3,7 +3,7 @@ from itertools import product
 
 from keenscale.spans import spans, two_pairs
 from tests.helper import (
-    draws, drawn_sayings, drawn_spans, every_saying, every_sayings, has_round, has_two_pairs, is_round,
+    draws, drawn_sayings, drawn_spans, every_saying, every_sayings, falling, has_round, has_two_pairs, is_round,
     is_two_pairs, mixed, places, told_by, whole,
 )
 
@@ -51,9 +51,8 @@ class TwoPairs(unittest.TestCase):
         self.look(3, [(0, 0), (1, 2)])
 
     def test_two_hundred_sayings(self):
-        falling = [(one, other) for one, other in every_saying(12) if one > other]
-        self.assertIsNone(two_pairs(12, (falling * 4)[:200]))
-        self.look(12, ([pair for pair in falling if pair != (11, 0)] * 4)[:200])
+        self.assertIsNone(two_pairs(12, (falling(12) * 4)[:200]))
+        self.look(12, ([pair for pair in falling(12) if pair != (11, 0)] * 4)[:200])
         self.look(4, [(0, 1)] * 199 + [(2, 3)])
 
     def test_all_sayings_of_up_to_three_things(self):
@@ -118,11 +117,10 @@ class Spans(unittest.TestCase):
         self.assertEqual(spans(4, pairs), ("spans", [(2, 2), (1, 1), (0, 0), (0, 2)]))
 
     def test_twelve_in_a_row(self):
-        falling = [(one, other) for one, other in every_saying(12) if one > other]
         want = ("spans", [(thing, thing) for thing in range(12)])
-        self.assertEqual(spans(12, falling), want)
-        self.assertEqual(spans(12, (falling * 4)[:200]), want)
-        self.assertEqual(spans(12, (falling * 4)[199::-1]), want)
+        self.assertEqual(spans(12, falling(12)), want)
+        self.assertEqual(spans(12, (falling(12) * 4)[:200]), want)
+        self.assertEqual(spans(12, (falling(12) * 4)[199::-1]), want)
 
     def test_a_round_is_told_ahead_of_two_pairs(self):
         name, told = spans(5, [(0, 1), (2, 3), (4, 4)])
